@@ -1,0 +1,158 @@
+"""The interface as the document lists it, and those rules of the language that can be seen in the code."""
+
+import ast
+import builtins
+import importlib
+import inspect
+import pathlib
+import re
+import unittest
+
+FOLDER = pathlib.Path(__file__).resolve().parent.parent / "pairedtongues"
+FILES = sorted(FOLDER.rglob("*.py"))
+
+# What has landed of the interface: the file, and its functions with their parameters.
+INTERFACE = {
+    "books": {"is_book": ["thing"], "words_of": ["book", "side"], "turned": ["book"], "widest": ["book"]},
+    "rows": {"write_book": ["book"], "read_book": ["text"]},
+}
+
+BUILTINS = set(
+    "len range enumerate zip min max sum abs sorted reversed int str bool list tuple dict set isinstance ord repr any all "
+    "divmod pow ValueError KeyError TypeError".split()
+)
+METHODS = set(
+    "append clear copy count endswith extend find get index insert isalnum isalpha isdigit islower isspace isupper items join "
+    "keys ljust lower lstrip partition pop remove replace reverse rfind rjust rpartition rsplit rstrip setdefault split "
+    "splitlines startswith strip update upper values zfill bit_length add discard".split()
+)
+BARRED_WORDS = re.compile(
+    r"\b(type|typing|typing_extensions|enum|Enum|IntEnum|StrEnum|Flag|IntFlag|Generic|Protocol|ABC|ABCMeta|namedtuple|NamedTuple"
+    r"|TypedDict|TYPE_CHECKING|abstractmethod|register|mro|elements|open|input|law|eval|exec|exit|getattr|globals|locals|vars"
+    r"|dir|id|os|sys|super|delattr|compile|help|quit)\b"
+)
+NODES = (
+    ast.Module, ast.Import, ast.ImportFrom, ast.alias, ast.FunctionDef, ast.ClassDef, ast.arguments, ast.arg, ast.Return,
+    ast.Assign, ast.AugAssign, ast.Delete, ast.For, ast.While, ast.If, ast.Raise, ast.Try, ast.ExceptHandler, ast.Expr, ast.Pass,
+    ast.Break, ast.Continue, ast.BoolOp, ast.BinOp, ast.UnaryOp, ast.IfExp, ast.Dict, ast.Set, ast.ListComp, ast.SetComp,
+    ast.DictComp, ast.Compare, ast.Call, ast.Constant, ast.Attribute, ast.Subscript, ast.Starred, ast.Name, ast.List, ast.Tuple,
+    ast.Slice, ast.comprehension, ast.keyword, ast.expr_context, ast.boolop, ast.operator, ast.unaryop, ast.cmpop, ast.Lambda,
+)
+
+
+def trees():
+    return [(file, ast.parse(file.read_text("utf-8"))) for file in FILES]
+
+
+def own_functions():
+    return {
+        node.name for _, tree in trees() for node in ast.walk(tree) if isinstance(node, (ast.FunctionDef, ast.ClassDef))
+    }
+
+
+class Interface(unittest.TestCase):
+    def test_functions_and_their_parameters(self):
+        for name, functions in INTERFACE.items():
+            module = importlib.import_module(f"pairedtongues.{name}")
+            for function, parameters in functions.items():
+                with self.subTest(function):
+                    found = getattr(module, function)
+                    self.assertEqual(found.__module__, f"pairedtongues.{name}")
+                    self.assertEqual(list(inspect.signature(found).parameters), parameters)
+
+
+class Files(unittest.TestCase):
+    def test_nothing_else_is_in_the_folder(self):
+        for path in FOLDER.rglob("*"):
+            if "__pycache__" not in path.parts:
+                self.assertTrue(path.is_file() and re.fullmatch(r"[a-z0-9_]+\.py", path.name), path)
+        self.assertTrue((FOLDER / "__init__.py").is_file())
+
+    def test_size_and_characters(self):
+        for file in FILES:
+            text = file.read_text("utf-8")
+            self.assertTrue(all(letter == "\n" or " " <= letter <= "~" for letter in text), file)
+            self.assertLessEqual(len(text.split("\n")), 399, file)
+            self.assertLessEqual(max(len(line) for line in text.split("\n")), 120, file)
+
+    def test_functions_are_short(self):
+        for file, tree in trees():
+            for node in ast.walk(tree):
+                if isinstance(node, ast.FunctionDef):
+                    self.assertLessEqual(node.end_lineno - node.lineno + 1, 40, (file, node.name))
+
+
+class Code(unittest.TestCase):
+    def test_imports(self):
+        reached = {}
+        for file, tree in trees():
+            reached[file.stem] = []
+            for node in ast.walk(tree):
+                self.assertNotIsInstance(node, ast.Import, file)
+                if isinstance(node, ast.ImportFrom):
+                    folder, name = node.module.split(".")
+                    self.assertEqual((folder, node.level), ("pairedtongues", 0), file)
+                    self.assert_defined(name, node)
+                    reached[file.stem].append(name)
+        # An order in which each file imports from those ahead of it alone: no two import from each other.
+        ordered = []
+        while len(ordered) < len(reached):
+            ready = [name for name in sorted(reached) if name not in ordered and set(reached[name]) <= set(ordered)]
+            self.assertTrue(ready, "files import from each other")
+            ordered.extend(ready)
+
+    def assert_defined(self, name, node):
+        tree = ast.parse((FOLDER / f"{name}.py").read_text("utf-8"))
+        defined = {part.name for part in tree.body if isinstance(part, (ast.FunctionDef, ast.ClassDef))}
+        defined |= {part.targets[0].id for part in tree.body if isinstance(part, ast.Assign)}
+        for alias in node.names:
+            self.assertIsNone(alias.asname)
+            self.assertIn(alias.name, defined, name)
+
+    def test_statements_at_module_level(self):
+        for file, tree in trees():
+            for node in tree.body:
+                docstring = isinstance(node, ast.Expr) and isinstance(node.value, ast.Constant)
+                plain = isinstance(node, (ast.ImportFrom, ast.FunctionDef, ast.ClassDef, ast.Assign))
+                self.assertTrue(docstring or plain, (file, node.lineno))
+
+    def test_parts_of_the_code(self):
+        for file, tree in trees():
+            for node in ast.walk(tree):
+                where = (file.name, getattr(node, "lineno", 0))
+                self.assertIsInstance(node, NODES, where)
+                self.assertNotIsInstance(node, (ast.Div, ast.MatMult), where)
+                if isinstance(node, ast.Constant):
+                    self.assertNotIsInstance(node.value, (float, complex), where)
+                if isinstance(node, (ast.FunctionDef, ast.ClassDef)):
+                    self.assertEqual(node.decorator_list, [], where)
+
+    def test_builtins(self):
+        for file, tree in trees():
+            for node in ast.walk(tree):
+                if isinstance(node, ast.Name) and hasattr(builtins, node.id):
+                    self.assertIn(node.id, BUILTINS, (file.name, node.lineno))
+                    self.assertIsInstance(node.ctx, ast.Load, (file.name, node.lineno))
+                if isinstance(node, ast.arg):
+                    self.assertFalse(hasattr(builtins, node.arg), (file.name, node.lineno))
+
+    def test_methods(self):
+        own = own_functions()
+        for file, tree in trees():
+            for node in ast.walk(tree):
+                if isinstance(node, ast.Call) and isinstance(node.func, ast.Attribute):
+                    self.assertIn(node.func.attr, METHODS | own, (file.name, node.lineno))
+
+    def test_names(self):
+        for file, tree in trees():
+            for node in ast.walk(tree):
+                for field in ("id", "attr", "arg", "name"):
+                    name = getattr(node, field, None)
+                    if isinstance(name, str) and not (isinstance(node, ast.FunctionDef) and name == "__init__"):
+                        self.assertFalse(name.startswith("__") or BARRED_WORDS.fullmatch(name), (file.name, name))
+                if isinstance(node, ast.Constant) and isinstance(node.value, str):
+                    self.assertNotIn("%", node.value)
+
+
+if __name__ == "__main__":
+    unittest.main()
