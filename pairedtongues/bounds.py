@@ -1,4 +1,4 @@
-"""The greatest sizes of what books and texts are made of."""
+"""The greatest sizes of what books and texts are made of, and of what is listed."""
 
 MOST_LETTERS = 12
 MOST_WORDS = 8
@@ -13,3 +13,9 @@ MOST_VARIABLES = 3
 MOST_ITEMS = 6
 MOST_TERMS = 12
 MOST_DEPTH = 5
+MOST_TREES = 500
+MOST_ENTRIES = 2000
+
+# A node without words has two holes or more, one with one hole has a word: so
+# a tree whose text has eight words has at most fifteen nodes.
+MOST_NODES = 15

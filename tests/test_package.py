@@ -15,6 +15,25 @@ FILES = sorted(FOLDER.rglob("*.py"))
 INTERFACE = {
     "books": {"is_book": ["thing"], "words_of": ["book", "side"], "turned": ["book"], "widest": ["book"]},
     "rows": {"write_book": ["book"], "read_book": ["text"]},
+    "forms": {
+        "variables_of": ["book", "number", "side"], "bindings_of": ["book", "number", "side"], "forms_of": ["book", "side", "name"],
+        "joined_form": ["book", "side", "name", "form", "other"], "word_forms": ["book", "side", "word"],
+    },
+    "readings": {
+        "readings": ["book", "side", "text"], "count_readings": ["book", "side", "text"],
+        "reading_holds": ["book", "side", "text", "thing"], "read_by": ["book", "side", "thing"],
+        "stretches": ["book", "side", "text"], "no_reading_paper": ["book", "side", "text"],
+        "no_reading_holds": ["book", "side", "text", "thing"], "goes_on": ["book", "side", "text"],
+        "first_wrong": ["book", "side", "text"],
+    },
+    "pairs": {
+        "papers": ["book", "left", "right"], "count_papers": ["book", "left", "right"], "is_pair": ["book", "left", "right"],
+        "paper_holds": ["book", "left", "right", "thing"], "made_by": ["book", "thing"],
+        "side_reading": ["book", "side", "thing"], "pairs_of": ["book", "count", "other"], "texts_of": ["book", "side", "count"],
+        "no_pair_paper": ["book", "left", "right"], "no_pair_holds": ["book", "left", "right", "thing"],
+        "links": ["book", "thing"], "sure_links": ["book", "left", "right"], "open_links": ["book", "left", "right"],
+        "crossings": ["links"],
+    },
 }
 
 BUILTINS = set(
@@ -37,6 +56,7 @@ NODES = (
     ast.Break, ast.Continue, ast.BoolOp, ast.BinOp, ast.UnaryOp, ast.IfExp, ast.Dict, ast.Set, ast.ListComp, ast.SetComp,
     ast.DictComp, ast.Compare, ast.Call, ast.Constant, ast.Attribute, ast.Subscript, ast.Starred, ast.Name, ast.List, ast.Tuple,
     ast.Slice, ast.comprehension, ast.keyword, ast.expr_context, ast.boolop, ast.operator, ast.unaryop, ast.cmpop, ast.Lambda,
+    ast.JoinedStr, ast.FormattedValue,
 )
 
 
@@ -135,6 +155,50 @@ class Code(unittest.TestCase):
                     self.assertIsInstance(node.ctx, ast.Load, (file.name, node.lineno))
                 if isinstance(node, ast.arg):
                     self.assertFalse(hasattr(builtins, node.arg), (file.name, node.lineno))
+
+    def test_no_local_name_is_that_of_an_import_or_a_class(self):
+        for file, tree in trees():
+            taken = {alias.name for node in ast.walk(tree) if isinstance(node, ast.ImportFrom) for alias in node.names}
+            taken |= {node.name for node in ast.walk(tree) if isinstance(node, ast.ClassDef)}
+            for node in ast.walk(tree):
+                if isinstance(node, ast.Name) and isinstance(node.ctx, ast.Store):
+                    self.assertNotIn(node.id, taken, (file.name, node.lineno))
+                if isinstance(node, ast.arg):
+                    self.assertNotIn(node.arg, taken, (file.name, node.lineno))
+
+    def test_each_name_is_bound_once(self):
+        for file, tree in trees():
+            bound = [alias.name for node in tree.body if isinstance(node, ast.ImportFrom) for alias in node.names]
+            bound += [node.name for node in tree.body if isinstance(node, (ast.FunctionDef, ast.ClassDef))]
+            bound += [node.targets[0].id for node in tree.body if isinstance(node, ast.Assign)]
+            self.assertEqual(len(bound), len(set(bound)), file)
+
+    def test_all_that_is_imported_is_used(self):
+        for file, tree in trees():
+            used = {node.id for node in ast.walk(tree) if isinstance(node, ast.Name)}
+            for node in ast.walk(tree):
+                if isinstance(node, ast.ImportFrom):
+                    for alias in node.names:
+                        self.assertIn(alias.name, used, file)
+
+    def test_sets_are_measured_sorted_or_asked_at_once(self):
+        for file, tree in trees():
+            fine = set()
+            for node in ast.walk(tree):
+                if isinstance(node, ast.Call) and isinstance(node.func, ast.Name) and node.func.id in ("sorted", "len"):
+                    if not node.keywords:
+                        fine |= {id(part) for part in node.args}
+            for node in ast.walk(tree):
+                called = isinstance(node, ast.Call) and isinstance(node.func, ast.Name) and node.func.id in ("set", "frozenset")
+                if called or isinstance(node, (ast.Set, ast.SetComp)):
+                    self.assertIn(id(node), fine, (file.name, node.lineno))
+
+    def test_attributes_have_no_names_of_methods(self):
+        methods = {name for kind in (str, int, list, dict, set, bytes, tuple) for name in dir(kind)} - {"add", "count", "index"}
+        for file, tree in trees():
+            for node in ast.walk(tree):
+                if isinstance(node, ast.Attribute) and isinstance(node.ctx, ast.Store):
+                    self.assertNotIn(node.attr, methods, (file.name, node.lineno))
 
     def test_methods(self):
         own = own_functions()
