@@ -1,6 +1,6 @@
 """What meanings are: terms of three kinds."""
 
-from pairedtongues.bounds import MOST_DEPTH, MOST_TERMS
+from pairedtongues.bounds import MOST_CLOSED_DEPTH, MOST_CLOSED_TERMS, MOST_DEPTH, MOST_TERMS
 from pairedtongues.plain import is_integer, is_one_of
 
 KINDS = ("set", "part", "truth")
@@ -38,13 +38,23 @@ def parts_of(kind, word):
 
 def is_meaning(thing, kind, marks, hole_kinds):
     """Whether it is a meaning of this kind, in a rule whose holes have these kinds."""
+    return is_term(thing, kind, marks, hole_kinds, MOST_TERMS, MOST_DEPTH)
+
+
+def is_closed_term(thing, kind, marks):
+    """Whether it is a closed term of this kind."""
+    return is_term(thing, kind, marks, (), MOST_CLOSED_TERMS, MOST_CLOSED_DEPTH)
+
+
+def is_term(thing, kind, marks, hole_kinds, most, deepest):
+    """Whether it is a term of this kind, of at most so many terms and at most so deep, with no hole twice."""
     waiting = [(thing, kind, 1)]
     seen = 0
     holes = []
     while waiting:
         term, wanted, depth = waiting.pop()
         seen += 1
-        if seen > MOST_TERMS or depth > MOST_DEPTH or not is_node(term, wanted, marks, hole_kinds):
+        if seen > most or depth > deepest or not is_node(term, wanted, marks, hole_kinds):
             return False
         if term[0] == "hole":
             holes.append(term[1])

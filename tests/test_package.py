@@ -34,6 +34,25 @@ INTERFACE = {
         "links": ["book", "thing"], "sure_links": ["book", "left", "right"], "open_links": ["book", "left", "right"],
         "crossings": ["links"],
     },
+    "leading": {
+        "turned_papers": ["book", "side", "reading"], "led": ["book", "side", "text"], "first_led": ["book", "side", "text"],
+        "count_led_papers": ["book", "side", "text"], "why_not": ["book", "side", "text"], "written": ["book", "side", "thing"],
+        "led_between": ["book", "side", "text", "count", "other"], "kept_words": ["book", "left", "right"],
+    },
+    "agreeing": {
+        "loose_readings": ["book", "side", "text"], "bindings_for": ["book", "side", "reading"],
+        "clash": ["book", "side", "reading"], "mended": ["book", "side", "text"],
+        "fitting_words": ["book", "side", "text", "place"], "without_feature": ["book", "name"],
+        "idle_features": ["book", "count"],
+    },
+    "turns": {
+        "order_of": ["book", "number"], "inversions": ["order"], "split_tree": ["order"], "split_holds": ["order", "thing"],
+        "bar_of": ["order"], "split_book": ["book"],
+    },
+    "worlds": {
+        "worlds_of": ["book"], "true_in": ["book", "term", "world"], "cells_in": ["book", "term"],
+        "parts_apart": ["book", "term", "other"], "follows": ["book", "terms", "term"],
+    },
 }
 
 BUILTINS = set(
