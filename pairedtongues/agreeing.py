@@ -3,11 +3,11 @@
 from pairedtongues.books import need_book, need_side, side_items, words_of
 from pairedtongues.charts import Forest, filled, values_on
 from pairedtongues.errors import BadName, BadPlace, BadReading
-from pairedtongues.forests import loose_forest, paper_forest, reading_steps, spots_up_to, trees_of_text
-from pairedtongues.lines import free_line, no_layouts, side_words, text_line
+from pairedtongues.forests import loose_forest, reading_steps, trees_of_text
+from pairedtongues.lines import no_layouts, side_words, text_line
 from pairedtongues.masks import bits_in, either_mask, full_mask, joined_mask, shared_mask
 from pairedtongues.needs import need_count
-from pairedtongues.pairs import pairs_made
+from pairedtongues.pairs import small_pairs
 from pairedtongues.plain import is_integer, is_one_of
 from pairedtongues.readings import need_text_on
 from pairedtongues.trees import spelled, texts_made, tree_layouts
@@ -152,9 +152,3 @@ def idle_features(book, count):
     pairs = small_pairs(book, count)
     rest = [(name, small_pairs(left_out(book, name), count)) for name in names]
     return [name for name, others in rest if others == pairs]
-
-
-def small_pairs(book, count):
-    """The ascending list of the pairs of at most so many words on each side."""
-    forest = paper_forest(book, "left", free_line(count), free_line(count))
-    return pairs_made(book, forest.few_trees(spots_up_to(book, forest, count)))

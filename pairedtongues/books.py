@@ -121,6 +121,11 @@ def side_items(rule, side):
     return rule[3] if side == "left" else rule[4]
 
 
+def side_meaning(rule, side):
+    """The meaning of a rule on a side."""
+    return rule[5] if side == "left" else rule[6]
+
+
 def words_of(book, side):
     """The ascending list of the words on a side."""
     need_book(book)

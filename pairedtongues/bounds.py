@@ -17,7 +17,9 @@ MOST_CLOSED_TERMS = 300
 MOST_CLOSED_DEPTH = 80
 MOST_GIVEN_TERMS = 5
 MOST_THINGS = 2
+MOST_MEANT_MARKS = 3
 MOST_TREES = 500
+MOST_TEXTS = 500
 MOST_ENTRIES = 2000
 
 # A node without words has two holes or more, one with one hole has a word: so

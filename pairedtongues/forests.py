@@ -1,7 +1,7 @@
-"""The steps and forests for texts of one side, and for texts of both sides."""
+"""The steps and forests for texts of one side, and for texts of both sides; the trees of small texts."""
 
 from pairedtongues.charts import Forest, steps_of
-from pairedtongues.lines import layouts_by_rule, no_layouts
+from pairedtongues.lines import free_line, layouts_by_rule, no_layouts
 from pairedtongues.plain import SIDES
 from pairedtongues.uses import other_side, uses_of
 
@@ -39,3 +39,15 @@ def trees_of_text(book, forest, text):
 def spots_up_to(book, forest, count):
     """The spots of trees of the start sort for texts of at most so many words, on a free line."""
     return [spot for size in range(1, count + 1) for spot in forest.spots(book[3], (0, size))]
+
+
+def small_readings(book, side, count):
+    """The ascending list of the readings of texts of at most so many words."""
+    forest = reading_forest(book, side, free_line(count))
+    return forest.few_trees(spots_up_to(book, forest, count))
+
+
+def small_papers(book, count):
+    """The ascending list of the papers of pairs of at most so many words on each side."""
+    forest = paper_forest(book, "left", free_line(count), free_line(count))
+    return forest.few_trees(spots_up_to(book, forest, count))

@@ -1,16 +1,16 @@
 """Texts led from one tongue into the other."""
 
 from pairedtongues.books import need_book, need_side, side_items
-from pairedtongues.bounds import MOST_WORDS
 from pairedtongues.charts import Forest, filled, values_on
 from pairedtongues.errors import NoPair
-from pairedtongues.forests import paper_forest, paper_steps, reading_forest, trees_of_text
-from pairedtongues.lines import free_line, layouts_by_rule, no_layouts, text_line
+from pairedtongues.forests import paper_steps, reading_forest, trees_of_text
+from pairedtongues.leaders import Leader, free_layouts
+from pairedtongues.lines import no_layouts, text_line
 from pairedtongues.needs import need_count
-from pairedtongues.pairs import is_pair, shortest_first, texts_paired
+from pairedtongues.pairs import is_pair, texts_paired
 from pairedtongues.plain import SIDES
 from pairedtongues.readings import need_text_on, text_read
-from pairedtongues.trees import spelled, tree_layouts, words_made
+from pairedtongues.trees import spelled, tree_layouts
 from pairedtongues.uses import other_side, side_label, uses_of
 
 
@@ -31,33 +31,10 @@ def steps_along(book, side, reading):
     return [(use, layout) for _, node, layout in tree_layouts(book, side, reading) for use in uses[node[:2]]]
 
 
-def free_layouts(book, side):
-    """The layouts of the rules' sides in all texts of that side."""
-    return layouts_by_rule(book, side, free_line(MOST_WORDS))
-
-
-def led_forest(book, side, text):
-    """All papers that have stretches of the text on the side, and any words on the other one."""
-    return paper_forest(book, side, text_line(text), free_line(MOST_WORDS))
-
-
-def led_spots(book, forest, text, least, most):
-    """The spots of the papers of the whole text with at least and at most so many words on the other side."""
-    spots = forest.spots(book[3], (0, len(text)))
-    return [(whole, category, other) for whole, category, other in spots if least <= other[1] <= most]
-
-
-def led_texts(book, side, text, least, most):
-    """The texts of so many words to which the text is led, shortest first."""
-    forest = led_forest(book, side, text)
-    trees = forest.few_trees(led_spots(book, forest, text, least, most))
-    return shortest_first({words_made(book, other_side(side), tree): True for tree in trees})
-
-
 def led(book, side, text):
     """The texts of the other side with which the text is a pair, shortest first."""
     need_text_on(book, side, text)
-    return led_texts(book, side, text, 1, MOST_WORDS)
+    return Leader(book).texts(side, text)
 
 
 def first_led(book, side, text):
@@ -82,8 +59,7 @@ def lesser_words(words, further):
 def count_led_papers(book, side, text):
     """How many papers the text has with texts of the other side, however many."""
     need_text_on(book, side, text)
-    forest = led_forest(book, side, text)
-    return forest.total(led_spots(book, forest, text, 1, MOST_WORDS))
+    return Leader(book).total(side, text)
 
 
 def why_not(book, side, text):
@@ -110,7 +86,7 @@ def led_between(book, side, text, count, other):
     need_text_on(book, side, text)
     need_count(count, 1)
     need_count(other, count)
-    return led_texts(book, side, text, count, other)
+    return Leader(book).texts(side, text, count, other)
 
 
 def kept_words(book, left, right):

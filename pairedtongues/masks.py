@@ -11,6 +11,11 @@ def has_bit(mask, number):
     return (mask >> number) & 1 == 1
 
 
+def first_bit(mask):
+    """The least number in the mask, which is not empty."""
+    return (mask & -mask).bit_length() - 1
+
+
 def bits_in(mask, many):
     """The ascending list of the numbers below `many` that are in the mask."""
     return [number for number in range(many) if has_bit(mask, number)]

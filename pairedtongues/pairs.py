@@ -4,7 +4,7 @@ from pairedtongues.books import need_book, need_side
 from pairedtongues.bounds import MOST_ENTRIES, MOST_WORDS
 from pairedtongues.charts import all_spots, filled, is_closed, spots_on, value_at
 from pairedtongues.errors import BadLinks, BadPaper, NoPair, TooMany
-from pairedtongues.forests import paper_forest, paper_steps, reading_forest, spots_up_to
+from pairedtongues.forests import paper_forest, paper_steps, small_papers, small_readings
 from pairedtongues.lines import free_line, layouts_by_rule, text_line
 from pairedtongues.needs import need_count, need_text
 from pairedtongues.orders import turned_round
@@ -98,7 +98,23 @@ def pairs_of(book, count, other):
 
 def pairs_made(book, trees):
     """The ascending list of the pairs that these papers make."""
-    return sorted({(words_made(book, "left", tree), words_made(book, "right", tree)) for tree in trees})
+    return sorted({pair_made(book, tree) for tree in trees})
+
+
+def pair_made(book, tree):
+    """The pair that a paper makes."""
+    return (words_made(book, "left", tree), words_made(book, "right", tree))
+
+
+def small_pairs(book, count):
+    """The ascending list of the pairs of at most so many words on each side."""
+    return pairs_made(book, small_papers(book, count))
+
+
+def together(pair):
+    """The key by which pairs stand in their sequence: the number of words of both together, then the texts."""
+    left, right = pair
+    return (len(left) + len(right), left, right)
 
 
 def texts_of(book, side, count):
@@ -106,8 +122,7 @@ def texts_of(book, side, count):
     need_book(book)
     need_side(side)
     need_count(count, 1)
-    forest = reading_forest(book, side, free_line(count))
-    trees = forest.few_trees(spots_up_to(book, forest, count))
+    trees = small_readings(book, side, count)
     return shortest_first({words_made(book, side, tree): True for tree in trees})
 
 

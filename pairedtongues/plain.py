@@ -54,6 +54,11 @@ def is_text(thing):
     return is_tuple(thing, 1, MOST_WORDS) and all([is_word(entry) for entry in thing])
 
 
+def is_gapped(thing):
+    """Whether it is a gapped text."""
+    return is_tuple(thing, 1, MOST_WORDS) and all([entry is None or is_word(entry) for entry in thing])
+
+
 def are_names(thing, least, most):
     """Whether it is a tuple of so many names, none of them twice."""
     if not is_tuple(thing, least, most) or not all([is_name(entry) for entry in thing]):

@@ -36,6 +36,15 @@ def parts_of(kind, word):
     return PARTS.get((kind, word))
 
 
+def with_holes(term, worths):
+    """The term with these terms in the places of its holes."""
+    if term[0] == "hole":
+        return worths[term[1]]
+    if term[0] == "mark":
+        return term
+    return (term[0], *[with_holes(part, worths) for part in term[1:]])
+
+
 def is_meaning(thing, kind, marks, hole_kinds):
     """Whether it is a meaning of this kind, in a rule whose holes have these kinds."""
     return is_term(thing, kind, marks, hole_kinds, MOST_TERMS, MOST_DEPTH)

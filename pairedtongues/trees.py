@@ -4,10 +4,11 @@ The sides of a tree are those whose forms its labels tell: one side for
 readings, both for papers, none for loose readings.
 """
 
-from pairedtongues.books import side_items
+from pairedtongues.books import side_items, side_meaning
 from pairedtongues.bounds import MOST_NODES
 from pairedtongues.lines import Layout, is_item_word
 from pairedtongues.plain import is_integer, is_text, is_tuple
+from pairedtongues.terms import with_holes
 from pairedtongues.uses import uses_of
 
 
@@ -63,6 +64,12 @@ def spelled(items, parts):
     for item in items:
         words.extend([item] if is_item_word(item) else parts[item])
     return tuple(words)
+
+
+def meaning_made(book, side, tree):
+    """The closed term that the tree means on the side."""
+    parts = [meaning_made(book, side, child) for child in tree[-1]]
+    return with_holes(side_meaning(book[4][tree[0]], side), parts)
 
 
 def tree_layouts(book, side, tree):

@@ -6,7 +6,7 @@ from pairedtongues.errors import BadTerm, BadWorld
 from pairedtongues.masks import bits_in
 from pairedtongues.plain import is_integer, is_tuple
 from pairedtongues.terms import is_closed_term
-from pairedtongues.truths import cells_of, is_true, worlds_with
+from pairedtongues.truths import Worlds, all_worlds, cells_of, worlds_with
 
 
 def need_term(book, thing, kind):
@@ -35,7 +35,7 @@ def true_in(book, term, world):
     need_book(book)
     need_term(book, term, "truth")
     need_world(book, world)
-    return is_true(term, book[1], world)
+    return Worlds(book[1], [world]).where_true(term) == 1
 
 
 def cells_in(book, term):
@@ -50,10 +50,8 @@ def parts_apart(book, term, other):
     need_book(book)
     need_term(book, term, "truth")
     need_term(book, other, "truth")
-    for world in worlds_with(len(book[1])):
-        if is_true(term, book[1], world) != is_true(other, book[1], world):
-            return world
-    return None
+    worlds = all_worlds(book)
+    return worlds.first_of(worlds.where_true(term) ^ worlds.where_true(other))
 
 
 def follows(book, terms, term):
@@ -64,7 +62,8 @@ def follows(book, terms, term):
     for given in terms:
         need_term(book, given, "truth")
     need_term(book, term, "truth")
-    for world in worlds_with(len(book[1])):
-        if all([is_true(given, book[1], world) for given in terms]) and not is_true(term, book[1], world):
-            return world
-    return None
+    worlds = all_worlds(book)
+    apart = worlds.where_not(worlds.where_true(term))
+    for given in terms:
+        apart = apart & worlds.where_true(given)
+    return worlds.first_of(apart)

@@ -53,6 +53,20 @@ INTERFACE = {
         "worlds_of": ["book"], "true_in": ["book", "term", "world"], "cells_in": ["book", "term"],
         "parts_apart": ["book", "term", "other"], "follows": ["book", "terms", "term"],
     },
+    "meanings": {
+        "meaning": ["book", "side", "reading"], "rule_keeps": ["book", "number"], "book_keeps": ["book", "count"],
+        "doubtful": ["book", "side", "text"], "sayings_of": ["book", "side", "term", "count"],
+    },
+    "rounds": {
+        "back": ["book", "side", "text"], "comes_alone": ["book", "side", "text"], "rounds": ["book", "side", "text"],
+        "alike_texts": ["book", "side", "count"], "lost": ["book", "side", "count"],
+        "led_through": ["book", "other", "side", "text"],
+    },
+    "nearby": {
+        "nearest": ["book", "side", "text"], "nearest_pair": ["book", "left", "right", "count"],
+        "fillings": ["book", "side", "gapped"], "pair_fillings": ["book", "left", "right"],
+        "sure_words": ["book", "left", "right"], "count_fillings": ["book", "left", "right"],
+    },
 }
 
 BUILTINS = set(

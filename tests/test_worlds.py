@@ -5,98 +5,12 @@ import unittest
 from pairedtongues.errors import BadTerm, BadWorld
 from pairedtongues.worlds import cells_in, follows, parts_apart, true_in, worlds_of
 from tests.cases import Case
-from tests.examples import BARE, E, GREAT, Nasty, deep_tuple, strange_things
+from tests.examples import BARE, E, GREAT, Nasty, strange_things
+from tests.said import BLACK, CAT, NONE, SOME, bad_truths, chain, denied, plainly_true, random_term, tree
 
-NONE = ("none",)
-CAT, BLACK = ("mark", "cat"), ("mark", "black")
 ALL = ("is", ("all", CAT), BLACK)
-SOME = ("is", ("some", CAT), BLACK)
 CATS = ("is", ("some", CAT), CAT)
 ONE_MARK = (BARE[0], ("cat",), *BARE[2:])
-
-
-def things_of(world):
-    """The things of a world, each as (number, cell)."""
-    return {(number, cell) for cell, many in enumerate(world) for number in range(many)}
-
-
-def set_of(term, marks, world):
-    """The things in a set term."""
-    if term[0] == "none":
-        return set()
-    if term[0] == "mark":
-        return {thing for thing in things_of(world) if f"{thing[1]:02b}"[::-1][marks.index(term[1])] == "1"}
-    first = set_of(term[1], marks, world)
-    if term[0] == "not":
-        return things_of(world) - first
-    second = set_of(term[2], marks, world)
-    return first & second if term[0] == "both" else first | second
-
-
-def part_holds(term, things, marks, world):
-    if term[0] in ("and", "or"):
-        both = [part_holds(part, things, marks, world) for part in term[1:]]
-        return all(both) if term[0] == "and" else any(both)
-    own = set_of(term[1], marks, world)
-    return {"all": own <= things, "some": len(own & things) > 0, "no": len(own & things) == 0, "more": len(own & things) > 1}[term[0]]
-
-
-def plainly_true(term, marks, world):
-    if term[0] == "is":
-        return part_holds(term[1], set_of(term[2], marks, world), marks, world)
-    parts = [plainly_true(part, marks, world) for part in term[1:]]
-    return {"deny": not parts[0], "and": all(parts), "or": any(parts)}[term[0]]
-
-
-def random_term(dice, kind, marks, deep):
-    """A closed term of the kind, at most so deep."""
-    words = {"set": ["none", "mark", "mark", "not", "both", "either"], "part": ["all", "some", "no", "more", "and", "or"],
-             "truth": ["is", "is", "and", "or", "deny"]}[kind]
-    short = {"set": words[:3], "part": words[:4], "truth": words[:1]}[kind]
-    word = dice.choice(words if deep > 3 else short)
-    if word == "mark" and not marks:
-        word = "none"
-    inner = {"none": (), "mark": (), "not": ("set",), "both": ("set",) * 2, "either": ("set",) * 2, "is": ("part", "set"),
-             "deny": ("truth",)}.get(word, ("set",) if word in ("all", "some", "no", "more") else (kind,) * 2)
-    if word == "mark":
-        return ("mark", dice.choice(marks))
-    return (word,) + tuple(random_term(dice, part, marks, deep - 1) for part in inner)
-
-
-def chain(deep, last):
-    """A set term so deep."""
-    for _ in range(deep - 1):
-        last = ("not", last)
-    return last
-
-
-def tree(many):
-    """A set term of so many terms that is not deep."""
-    if many == 1:
-        return NONE
-    if many == 2:
-        return ("not", NONE)
-    return ("either", tree((many - 1) // 2), tree(many - 1 - (many - 1) // 2))
-
-
-def denied(deep):
-    """A truth term so deep."""
-    term = ("is", ("no", NONE), NONE)
-    for _ in range(deep - 3):
-        term = ("deny", term)
-    return term
-
-
-def bad_truths():
-    """No closed terms of the kind truth in E."""
-    found = [CAT, NONE, ("all", CAT), ("hole", 0), ("deny", ("hole", 0)), ("is", ("all", ("hole", 0)), CAT), ("is", ("hole", 0), CAT),
-             ("is", CAT, CAT), ("is", ("all", CAT), ("some", CAT)), ("is", ("all", ("mark", "dog")), CAT), ("is", ("all", CAT)),
-             ("is", ("all", CAT), CAT, CAT), ("and", SOME), ("and", SOME, CAT), ("and", ("all", CAT), ("all", CAT)), ("or", SOME, SOME, SOME),
-             ("deny",), ("deny", SOME, SOME), ("not", SOME), ("Deny", SOME), "deny", list(SOME), ["is", ("all", CAT), CAT],
-             ("is", ["all", CAT], CAT), ("is", ("all", ["mark", "cat"]), CAT), ("is", ("all", ("mark", b"cat")), CAT), denied(81),
-             ("is", ("all", tree(299)), NONE), ("is", ("all", chain(79, NONE)), CAT), ("is", ("all", CAT), chain(80, CAT)), (),
-             ("is", ("all", Nasty()), CAT), ("is", ("all", ("mark", Nasty())), CAT), deep_tuple(190), ("mark",), ("deny", True)]
-    return found + strange_things()
 
 
 class Worlds(Case):
