@@ -20,6 +20,10 @@ MOST_THINGS = 2
 MOST_MEANT_MARKS = 3
 MOST_TREES = 500
 MOST_TEXTS = 500
+MOST_EXAMPLES = 5
+MOST_EXAMPLE_PAPERS = 200
+MOST_WAYS = 2000
+MOST_DEEDS = 40
 MOST_ENTRIES = 2000
 
 # A node without words has two holes or more, one with one hole has a word: so

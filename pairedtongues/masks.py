@@ -16,6 +16,16 @@ def first_bit(mask):
     return (mask & -mask).bit_length() - 1
 
 
+def mask_of(numbers):
+    """The mask of these numbers, none of which stands twice."""
+    return sum([1 << number for number in numbers])
+
+
+def within(mask, further):
+    """Whether all numbers of the one mask are in the further one."""
+    return mask & ~further == 0
+
+
 def bits_in(mask, many):
     """The ascending list of the numbers below `many` that are in the mask."""
     return [number for number in range(many) if has_bit(mask, number)]
@@ -24,6 +34,11 @@ def bits_in(mask, many):
 def either_mask(mask, further):
     """The mask of the numbers of either."""
     return mask | further
+
+
+def both_mask(mask, further):
+    """The mask of the numbers that are in both."""
+    return mask & further
 
 
 def joined_mask(masks):

@@ -62,14 +62,19 @@ def doubtful(book, side, text):
     need_truth(book)
     need_side(side)
     need_text(text)
-    worlds = all_worlds(book)
-    told = [(reading, worlds.where_true(meaning_made(book, side, reading))) for reading in readings(book, side, text)]
+    told = worlds_told(book, side, text)
     # If any two of them part, the first reading parts from another one.
     for reading, where in told[1:]:
         first, first_where = told[0]
         if where != first_where:
-            return (first, reading, worlds.first_of(where ^ first_where))
+            return (first, reading, all_worlds(book).first_of(where ^ first_where))
     return None
+
+
+def worlds_told(book, side, text):
+    """Each reading of a text with the worlds in which it is true, readings as they ascend."""
+    worlds = all_worlds(book)
+    return [(reading, worlds.where_true(meaning_made(book, side, reading))) for reading in readings(book, side, text)]
 
 
 def sayings_of(book, side, term, count):

@@ -111,6 +111,14 @@ def small_pairs(book, count):
     return pairs_made(book, small_papers(book, count))
 
 
+def first_of_one(pairs, others):
+    """The first pair that is in just one of the two lists, None if there is none."""
+    known = {pair: True for pair in pairs}
+    others_known = {pair: True for pair in others}
+    apart = [pair for pair in pairs if pair not in others_known] + [pair for pair in others if pair not in known]
+    return min(apart, key=together, default=None)
+
+
 def together(pair):
     """The key by which pairs stand in their sequence: the number of words of both together, then the texts."""
     left, right = pair

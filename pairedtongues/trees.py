@@ -66,6 +66,17 @@ def spelled(items, parts):
     return tuple(words)
 
 
+def rules_in(tree):
+    """The ascending tuple of the numbers of the rules in a tree, each once."""
+    numbers = []
+    waiting = [tree]
+    while waiting:
+        node = waiting.pop()
+        numbers.append(node[0])
+        waiting.extend(list(node[-1]))
+    return tuple(sorted(set(numbers)))
+
+
 def meaning_made(book, side, tree):
     """The closed term that the tree means on the side."""
     parts = [meaning_made(book, side, child) for child in tree[-1]]

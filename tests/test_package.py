@@ -10,8 +10,9 @@ import unittest
 
 FOLDER = pathlib.Path(__file__).resolve().parent.parent / "pairedtongues"
 FILES = sorted(FOLDER.rglob("*.py"))
+DOCUMENT = FOLDER.parent.parent / "shared" / "DOC.md"
 
-# What has landed of the interface: the file, and its functions with their parameters.
+# The interface: the file, and its functions with their parameters.
 INTERFACE = {
     "books": {"is_book": ["thing"], "words_of": ["book", "side"], "turned": ["book"], "widest": ["book"]},
     "rows": {"write_book": ["book"], "read_book": ["text"]},
@@ -67,6 +68,26 @@ INTERFACE = {
         "fillings": ["book", "side", "gapped"], "pair_fillings": ["book", "left", "right"],
         "sure_words": ["book", "left", "right"], "count_fillings": ["book", "left", "right"],
     },
+    "learning": {
+        "part_book": ["book", "numbers"], "fits": ["book", "numbers", "examples"], "fewest_rules": ["book", "examples"],
+        "rules_of": ["book", "thing"], "branching_paper": ["book", "examples", "count"],
+        "branching_holds": ["book", "examples", "count", "thing"], "sure_rules": ["book", "examples"],
+        "open_rules": ["book", "examples"], "parting_pair": ["book", "numbers", "others", "count"],
+        "first_unfit": ["book", "numbers", "examples"],
+    },
+    "beside": {
+        "needless_rules": ["book", "count"], "books_apart": ["book", "other", "count"], "joined_books": ["book", "other"],
+    },
+}
+
+# The same for classes: the file, the class, and its methods with their parameters.
+CLASSES = {
+    ("session", "Session"): {
+        "__init__": ["self", "book"], "add": ["self", "rule"], "leave_out": ["self", "name"], "undo": ["self"], "book": ["self"],
+        "led": ["self", "side", "text"], "readings": ["self", "side", "text"], "is_pair": ["self", "left", "right"],
+        "__len__": ["self"], "__eq__": ["self", "other"], "copy": ["self"],
+    },
+    ("desk", "Desk"): {"__init__": ["self"], "say": ["self", "row"], "session": ["self"]},
 }
 
 BUILTINS = set(
@@ -83,6 +104,7 @@ BARRED_WORDS = re.compile(
     r"|TypedDict|TYPE_CHECKING|abstractmethod|register|mro|elements|open|input|law|eval|exec|exit|getattr|globals|locals|vars"
     r"|dir|id|os|sys|super|delattr|compile|help|quit)\b"
 )
+METHOD_NAMES = ("__init__", "__eq__", "__len__")
 NODES = (
     ast.Module, ast.Import, ast.ImportFrom, ast.alias, ast.FunctionDef, ast.ClassDef, ast.arguments, ast.arg, ast.Return,
     ast.Assign, ast.AugAssign, ast.Delete, ast.For, ast.While, ast.If, ast.Raise, ast.Try, ast.ExceptHandler, ast.Expr, ast.Pass,
@@ -112,6 +134,31 @@ class Interface(unittest.TestCase):
                     found = getattr(module, function)
                     self.assertEqual(found.__module__, f"pairedtongues.{name}")
                     self.assertEqual(list(inspect.signature(found).parameters), parameters)
+
+
+    def test_classes_and_their_methods(self):
+        for (name, shape), methods in CLASSES.items():
+            found = getattr(importlib.import_module(f"pairedtongues.{name}"), shape)
+            self.assertEqual(found.__module__, f"pairedtongues.{name}")
+            for method, parameters in methods.items():
+                with self.subTest(shape, method=method):
+                    self.assertIn(method, vars(found))
+                    self.assertEqual(list(inspect.signature(vars(found)[method]).parameters), parameters)
+
+    def test_all_of_the_document_is_there(self):
+        if not DOCUMENT.exists():
+            self.skipTest("the document is not here")
+        listed = DOCUMENT.read_text("utf-8").split("# The interface", 1)[1]
+        for heading in re.split(r"^## pairedtongues/", listed, flags=re.M)[1:]:
+            name = heading.split(".py", 1)[0]
+            module = importlib.import_module(f"pairedtongues.{name}")
+            for function, arguments in re.findall(r"`([a-z_]+)\(([a-z, ]*)\)`", heading):
+                if name not in ("session", "desk"):
+                    with self.subTest(function):
+                        self.assertEqual(list(inspect.signature(vars(module)[function]).parameters), arguments.split(", "))
+            for kind, _, methods in re.findall(r"class `([A-Z][A-Za-z]+)\((.*?)\)`(.*)", heading):
+                for method in re.findall(r"`([a-z_]+)\(", methods):
+                    self.assertIn(method, vars(vars(module)[kind]))
 
 
 class Files(unittest.TestCase):
@@ -245,7 +292,7 @@ class Code(unittest.TestCase):
             for node in ast.walk(tree):
                 for field in ("id", "attr", "arg", "name"):
                     name = getattr(node, field, None)
-                    if isinstance(name, str) and not (isinstance(node, ast.FunctionDef) and name == "__init__"):
+                    if isinstance(name, str) and not (isinstance(node, ast.FunctionDef) and name in METHOD_NAMES):
                         self.assertFalse(name.startswith("__") or BARRED_WORDS.fullmatch(name), (file.name, name))
                 if isinstance(node, ast.Constant) and isinstance(node.value, str):
                     self.assertNotIn("%", node.value)
