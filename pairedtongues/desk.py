@@ -4,7 +4,6 @@ from pairedtongues.errors import BadCommand
 from pairedtongues.leading import led, why_not
 from pairedtongues.meanings import worlds_told
 from pairedtongues.nearby import nearest
-from pairedtongues.needs import need_text
 from pairedtongues.plain import is_side
 from pairedtongues.readings import count_readings
 from pairedtongues.rows import read_book
@@ -155,10 +154,9 @@ class Desk:
     def answer_side(self, command, words):
         """What a command with a side and a text is answered."""
         need_form(len(words) >= 2 and is_side(words[0]))
-        text = tuple(words[1:])
-        need_text(text)
         answer = SIDE_ANSWERS[command]
-        return answer(self.held.book(), words[0], text)
+        # What is no text is refused by the function that is asked.
+        return answer(self.held.book(), words[0], tuple(words[1:]))
 
     def answer_pair(self, words):
         """Whether two texts are a pair."""
@@ -166,8 +164,6 @@ class Desk:
         middle = words.index("/")
         left, right = tuple(words[:middle]), tuple(words[middle + 1:])
         need_form(left != () and right != ())
-        need_text(left)
-        need_text(right)
         return "yes" if self.held.is_pair(left, right) else "no"
 
     def answer_drop(self, words):

@@ -34,9 +34,10 @@ def rounds(book, side, text):
     while waiting:
         here, reached = waiting.pop()
         there = other_side(here)
-        further = [led for led in leader.texts(here, reached) if led not in found[there]]
-        found[there].update({led: True for led in further})
-        waiting.extend([(there, led) for led in further])
+        further = [target for target in leader.texts(here, reached) if target not in found[there]]
+        for target in further:
+            found[there][target] = True
+            waiting.append((there, target))
         if len(found[here]) + len(found[there]) > MOST_TEXTS:
             raise TooMany("there are more than five hundred texts")
     return (shortest_first(found[side]), shortest_first(found[other_side(side)]))
@@ -49,9 +50,9 @@ def alike_texts(book, side, count):
     fellows = {}
     # A list comes in with its first text, so that the lists stand in the order of their first texts.
     for text in texts:
-        led = tuple(leader.texts(side, text))
-        if led:
-            fellows.setdefault(led, []).append(text)
+        targets = tuple(leader.texts(side, text))
+        if targets:
+            fellows.setdefault(targets, []).append(text)
     return list(fellows.values())
 
 
@@ -69,11 +70,11 @@ def lost(book, side, count):
     told = told_by_texts(book, side, small_readings(book, side, count), worlds)
     leader = Leader(book)
     texts = shortest_first(told)
-    led = {text: {target: True for target in leader.texts(side, text)} for text in texts}
+    targets = {text: {target: True for target in leader.texts(side, text)} for text in texts}
     for at, first in enumerate(texts):
         for second in texts[at + 1:]:
             apart = parting_worlds(told[first], told[second])
-            shared = [target for target in led[first] if target in led[second]] if apart else []
+            shared = [target for target in targets[first] if target in targets[second]] if apart else []
             if shared:
                 return (first, second, shared[0], worlds.first_of(apart))
     return None

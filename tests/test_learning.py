@@ -33,7 +33,7 @@ def bad_numbers(least):
 
 def bad_examples():
     """No examples."""
-    found = [(), (EVERY,) * 6, [EVERY], [], list(EVERY), EVERY, (list(EVERY),), (EVERY, list(EVERY)), (EVERY, None), (EVERY + EVERY,),
+    found = [(), (EVERY,) * 6, [EVERY], [], list(EVERY), EVERY, (list(EVERY),), (EVERY, list(EVERY)), (EVERY, None), (EVERY + EVERY,), (EVERY + EVERY[:1],), (EVERY, EVERY[:1] + EVERY),
              (EVERY[:1],), ((),), ((EVERY,),), None, 0, True, "", {}, Nasty(), (Nasty(),), (EVERY, Nasty()), deep_tuple(100), ((0, 1),)]
     for bad in bad_texts():
         found.extend([((bad, EVERY[1]),), (EVERY, (EVERY[0], bad))])

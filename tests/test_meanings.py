@@ -263,6 +263,12 @@ TRUTHS = [
     ("p", ("is", H0, ("both", CAT, BLACK)), ("is", H0, CAT), False),
     ("p", ("and", ALL, ("is", H0, ("both", CAT, BLACK))), ("and", ALL, ("is", H0, CAT)), True),
     ("p", ("and", SOME, ("is", H0, ("both", CAT, BLACK))), ("and", SOME, ("is", H0, CAT)), False),
+    ("p", ("and", ("is", H0, ("both", CAT, BLACK)), SOME), ("and", ("is", H0, CAT), SOME), False),
+    ("p", ("and", ("is", H0, ("both", CAT, BLACK)), ALL), ("and", ("is", H0, CAT), ALL), True),
+    ("p", ("or", ("is", H0, CAT), NO), ("or", ("is", H0, BLACK), NO), False),
+    ("p", ("deny", ("is", H0, CAT)), ("deny", ("is", H0, BLACK)), False),
+    ("p", ("deny", ("or", ("is", H0, CAT), NO)), ("deny", ("is", H0, BLACK)), False),
+    ("tp", ("or", ("and", ("is", H1, CAT), H0), NO), ("and", H0, ("is", H1, BLACK)), False),
     ("p", ("deny", ("is", H0, CAT)), ("is", H0, ("not", CAT)), False), ("p", ("or", ("is", H0, CAT), YES), YES, True),
     ("p", ("is", H0, CAT), YES, False), ("p", YES, YES, True),
     ("p", ("and", ("is", H0, CAT), NO), ("and", ("is", H0, BLACK), NO), True),
@@ -595,6 +601,7 @@ class SayingsOf(Case):
             self.says(E, "left", term, 8, [])
 
     def test_shortest_first_and_any_of_the_readings(self):
+        self.says(TALK, "left", YES, 1, [("yes",)])
         self.says(TALK, "left", YES, 2, [("yes",), ("yes", "yes")])
         self.says(TALK, "left", ("is", ("all", NONE), BLACK), 3, [
             ("yes",), ("yes", "yes"), ("not", "not", "yes"), ("not", "yes", "yes"), ("yes", "yes", "yes"),

@@ -315,6 +315,15 @@ class Copies(unittest.TestCase):
         session.add(HEN)
         self.assertEqual(names_in(twin)[-1], "dog")
 
+    def test_of_a_new_session(self):
+        session = Session(E)
+        twin = session.copy()
+        self.assertTrue(twin == session)
+        with self.assertRaises(errors.NothingToUndo):
+            twin.undo()
+        twin.leave_out("cat")
+        self.assertEqual((len(session), len(twin)), (9, 8))
+
     def test_takes_back_what_was_done_ahead_of_it(self):
         session = Session(E)
         session.leave_out("cat")
